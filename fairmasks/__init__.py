@@ -1,0 +1,1 @@
+"""Fairmasks: rows shown in part by whoever never opens what stays hidden."""

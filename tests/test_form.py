@@ -1,0 +1,175 @@
+"""The interface as it is listed, and the simplest rules that all files of the package keep."""
+
+import ast
+import builtins
+import importlib
+import os
+import unittest
+
+FOLDER = os.path.join(os.path.dirname(os.path.dirname(os.path.abspath(__file__))), "fairmasks")
+
+# What has landed of the interface: for each file its functions and classes with their parameters.
+INTERFACE = {
+    "rows": {"contents": 1, "in_box": 2, "is_box": 2, "is_list": 2, "box_at": 3, "both": 3},
+    "habits": {"Habit": 2, "share": 3, "patterns": 1, "unfair": 1, "is_fair": 1, "box_shares": 1, "habit_of": 2},
+}
+LIBRARY = {
+    "heapq": ["heappush", "heappop", "heapify", "heapreplace", "heappushpop"],
+    "math": ["gcd", "lcm", "isqrt", "comb", "perm", "factorial"],
+    "itertools": ["product", "combinations", "permutations", "chain", "accumulate", "pairwise", "islice",
+                  "zip_longest"],
+    "collections": ["defaultdict"],
+}
+BUILTINS = """len range enumerate zip min max sum abs sorted reversed int str bool bytes list tuple dict set frozenset
+    isinstance ord repr any all divmod pow map iter next getattr hasattr setattr super property staticmethod
+    classmethod Exception ValueError TypeError KeyError IndexError LookupError ZeroDivisionError ArithmeticError
+    OverflowError RuntimeError NotImplementedError AttributeError StopIteration NotImplemented""".split()
+# Python keeps the last value that was shown under the name _ there.
+OUTSIDE = [name for name in dir(builtins) if not name.startswith("_")]
+TAKE_LISTS = ["any", "all", "min", "max", "sum", "sorted"]
+
+
+def package_files():
+    return sorted(name for name in os.listdir(FOLDER) if name != "__pycache__")
+
+
+def read(name):
+    with open(os.path.join(FOLDER, name), encoding="utf-8") as held:
+        return held.read()
+
+
+def trees():
+    return [(name, ast.parse(read(name))) for name in package_files()]
+
+
+def nodes(kind):
+    return [(name, node) for name, tree in trees() for node in ast.walk(tree) if isinstance(node, kind)]
+
+
+def imports_of(tree):
+    return [node for node in tree.body if isinstance(node, (ast.Import, ast.ImportFrom))]
+
+
+def bound_at_top(tree):
+    """The names that a file itself defines."""
+    names = []
+    for node in tree.body:
+        if isinstance(node, (ast.FunctionDef, ast.ClassDef)):
+            names.append(node.name)
+        elif isinstance(node, ast.Assign):
+            names.extend(target.id for target in node.targets)
+    return names
+
+
+class Interface(unittest.TestCase):
+    def test_names_are_defined_in_their_files(self):
+        for module, names in INTERFACE.items():
+            defined = bound_at_top(ast.parse(read(module + ".py")))
+            for name in names:
+                self.assertEqual(defined.count(name), 1, name)
+
+    def test_names_take_their_arguments_by_position(self):
+        for module, names in INTERFACE.items():
+            for name, many in names.items():
+                made = getattr(importlib.import_module("fairmasks." + module), name)
+                code = made.__init__.__code__ if isinstance(made, type) else made.__code__
+                self.assertEqual(code.co_argcount - isinstance(made, type), many, name)
+                self.assertEqual(code.co_kwonlyargcount, 0, name)
+
+
+class Files(unittest.TestCase):
+    def test_the_folder_holds_plain_python_files_alone(self):
+        self.assertIn("__init__.py", package_files())
+        for name in package_files():
+            self.assertRegex(name, r"^[a-z0-9_]+\.py$")
+
+    def test_sizes_and_characters(self):
+        for name in package_files():
+            lines = read(name).split("\n")
+            self.assertLessEqual(len(lines), 399, name)
+            for line in lines:
+                self.assertLessEqual(len(line), 120, (name, line))
+                self.assertTrue(all(" " <= sign <= "~" for sign in line), (name, line))
+
+    def test_functions_are_small(self):
+        for name, node in nodes(ast.FunctionDef):
+            self.assertLessEqual(node.end_lineno - node.lineno + 1, 40, (name, node.name))
+
+    def test_imports(self):
+        files = {"fairmasks." + name[:-3]: bound_at_top(tree) for name, tree in trees()}
+        for name, tree in trees():
+            self.assertEqual(len(imports_of(tree)), len([n for n in ast.walk(tree) if isinstance(
+                n, (ast.Import, ast.ImportFrom))]), name)
+            for node in imports_of(tree):
+                self.assertIsInstance(node, ast.ImportFrom, name)
+                allowed = LIBRARY.get(node.module, files.get(node.module, []))
+                for alias in node.names:
+                    self.assertIn(alias.name, allowed, (name, node.module))
+                    self.assertIsNone(alias.asname)
+
+    def test_no_two_files_import_each_other(self):
+        left = {"fairmasks." + name[:-3]: {node.module for node in imports_of(tree)} for name, tree in trees()}
+        while left:
+            free = [module for module in left if not left[module] & set(left)]
+            self.assertNotEqual(free, [], left)
+            left = {module: left[module] for module in left if module not in free}
+
+
+class Code(unittest.TestCase):
+    def test_only_named_builtins_are_used(self):
+        for name, node in nodes(ast.Name):
+            if node.id in OUTSIDE:
+                self.assertIn(node.id, BUILTINS, (name, node.lineno))
+                self.assertIsInstance(node.ctx, ast.Load, (name, node.lineno))
+
+    def test_no_name_is_that_of_a_builtin(self):
+        for name, node in nodes(ast.arg):
+            self.assertNotIn(node.arg, OUTSIDE, (name, node.lineno))
+        for name, tree in trees():
+            for bound in bound_at_top(tree):
+                self.assertNotIn(bound, OUTSIDE, name)
+
+    def test_no_parameter_or_variable_is_called_like_an_import(self):
+        for name, tree in trees():
+            taken = {alias.name for node in imports_of(tree) for alias in node.names}
+            taken |= {node.name for node in tree.body if isinstance(node, ast.ClassDef)}
+            bound = [node.arg for node in ast.walk(tree) if isinstance(node, ast.arg)]
+            bound += [node.id for node in ast.walk(tree)
+                      if isinstance(node, ast.Name) and not isinstance(node.ctx, ast.Load)]
+            self.assertEqual([word for word in bound if word in taken], [], name)
+
+    def test_no_floats_and_no_division(self):
+        for name, node in nodes(ast.Constant):
+            self.assertNotIsInstance(node.value, (float, complex), (name, node.lineno))
+        for name, node in nodes(ast.Div):
+            self.fail(name)
+
+    def test_no_statements_outside_of_the_language(self):
+        for kind in (ast.Global, ast.AsyncFunctionDef, ast.Await, ast.TryStar):
+            self.assertEqual(nodes(kind), [])
+
+    def test_what_compares_takes_no_generator(self):
+        for name, node in nodes(ast.Call):
+            if isinstance(node.func, ast.Name) and node.func.id in TAKE_LISTS:
+                for argument in node.args:
+                    self.assertNotIsInstance(argument, ast.GeneratorExp, (name, node.lineno))
+
+    def test_is_stands_beside_none_and_flags_alone(self):
+        for name, node in nodes(ast.Compare):
+            for sign, other in zip(node.ops, node.comparators):
+                if isinstance(sign, (ast.Is, ast.IsNot)):
+                    self.assertIsInstance(other, ast.Constant, (name, node.lineno))
+                    self.assertIn(other.value, (None, True, False), (name, node.lineno))
+
+    def test_errors_are_raised_by_name(self):
+        for name, node in nodes(ast.Raise):
+            self.assertTrue(node.exc is None or isinstance(node.exc, ast.Call), (name, node.lineno))
+
+    def test_words_that_are_barred_from_strings(self):
+        for name, node in nodes(ast.Constant):
+            if isinstance(node.value, str):
+                self.assertNotIn("%", node.value, (name, node.lineno))
+
+
+if __name__ == "__main__":
+    unittest.main()
