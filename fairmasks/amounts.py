@@ -1,6 +1,6 @@
 """Integers, pairs, fractions and shares."""
 
-from math import gcd
+from math import gcd, lcm
 
 ZERO = (0, 1)
 ONE = (1, 1)
@@ -48,3 +48,34 @@ def minus(one, other):
 def below(one, other):
     """Whether the first fraction is less than the other one."""
     return one[0] * other[1] < other[0] * one[1]
+
+
+def times(one, other):
+    """The product of two fractions."""
+    return fraction(one[0] * other[0], one[1] * other[1])
+
+
+def over(one, other):
+    """The first fraction divided by the other one, which is above 0."""
+    return fraction(one[0] * other[1], one[1] * other[0])
+
+
+def greater(one, other):
+    """The greater one of two fractions."""
+    if below(one, other):
+        return other
+    return one
+
+
+def common_bottom(parts):
+    """The least common bottom of a list of fractions."""
+    bottom = 1
+    for part in parts:
+        bottom = lcm(bottom, part[1])
+    return bottom
+
+
+def total(parts):
+    """The sum of a list of fractions."""
+    bottom = common_bottom(parts)
+    return fraction(sum([part[0] * (bottom // part[1]) for part in parts]), bottom)

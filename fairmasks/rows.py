@@ -8,6 +8,8 @@ LEAST_SIZE = 2
 MOST_SIZE = 4
 MOST_CONTENTS = 256
 MOST_PATTERNS = 12
+# The box of all contents.
+START = ((), ())
 
 
 def is_sizes(thing):
@@ -78,6 +80,38 @@ def place_of(sizes, content):
 def worths_at(pattern, content):
     """The worths that a content has in the columns of a pattern."""
     return tuple([content[column] for column in pattern])
+
+
+def less(pattern, column):
+    """A pattern without a column."""
+    return tuple([other for other in pattern if other != column])
+
+
+def patterns_within(pattern):
+    """The list of all patterns within a pattern."""
+    found = [()]
+    for column in pattern:
+        found = found + [inner + (column,) for inner in found]
+    return found
+
+
+def narrowed(box, pattern):
+    """The box of a pattern, which lies within that of the box, around a box."""
+    told = {column: worth for column, worth in zip(box[0], box[1])}
+    return (pattern, tuple([told[column] for column in pattern]))
+
+
+def boxes_of(sizes, pattern):
+    """The boxes of a pattern, ascending."""
+    return [(pattern, worths) for worths in all_contents([sizes[column] for column in pattern])]
+
+
+def boxes_with(sizes, box, column):
+    """The boxes, one for each worth, into which a column that is not in its pattern parts a box."""
+    pattern, worths = box
+    at = len([other for other in pattern if other < column])
+    wider = pattern[:at] + (column,) + pattern[at:]
+    return [(wider, worths[:at] + (worth,) + worths[at:]) for worth in range(sizes[column])]
 
 
 def contents(sizes):

@@ -1,7 +1,8 @@
 import unittest
 from fractions import Fraction
 
-from fairmasks.amounts import below, fraction, is_fraction, is_pair, is_share, is_whole, minus, plus
+from fairmasks.amounts import (below, common_bottom, fraction, greater, is_fraction, is_pair, is_share, is_whole, minus,
+                               over, plus, times, total)
 from samples import strangers
 
 
@@ -48,6 +49,18 @@ class Amounts(unittest.TestCase):
                 self.assertEqual(plus(pair(one), pair(other)), pair(one + other))
                 self.assertEqual(minus(pair(one), pair(other)), pair(one - other))
                 self.assertIs(below(pair(one), pair(other)), one < other)
+                self.assertEqual(times(pair(one), pair(other)), pair(one * other))
+                self.assertEqual(greater(pair(one), pair(other)), pair(max(one, other)))
+                if other > 0:
+                    self.assertEqual(over(pair(one), pair(other)), pair(one / other))
+
+    def test_sums(self):
+        values = [Fraction(top, bottom) for top in range(-4, 5) for bottom in range(1, 8)]
+        for at in range(len(values)):
+            self.assertEqual(total([pair(value) for value in values[:at]]), pair(sum(values[:at], Fraction(0))))
+        self.assertEqual(total([]), (0, 1))
+        self.assertEqual(common_bottom([]), 1)
+        self.assertEqual(common_bottom([(1, 4), (5, 6), (0, 1)]), 12)
 
     def test_lowest_terms_are_made(self):
         self.assertEqual(fraction(4, 6), (2, 3))

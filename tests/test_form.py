@@ -4,6 +4,7 @@ import ast
 import builtins
 import importlib
 import os
+import re
 import unittest
 
 FOLDER = os.path.join(os.path.dirname(os.path.dirname(os.path.abspath(__file__))), "fairmasks")
@@ -12,7 +13,25 @@ FOLDER = os.path.join(os.path.dirname(os.path.dirname(os.path.abspath(__file__))
 INTERFACE = {
     "rows": {"contents": 1, "in_box": 2, "is_box": 2, "is_list": 2, "box_at": 3, "both": 3},
     "habits": {"Habit": 2, "share": 3, "patterns": 1, "unfair": 1, "is_fair": 1, "box_shares": 1, "habit_of": 2},
+    "sharing": {"share_behind": 4, "share_struck": 4, "wrong_share": 2, "mixed": 3, "hidden_again": 2, "renamed": 2},
+    "programs": {"Program": 2},
+    "running": {"run": 3, "habit_by": 1, "is_blind": 1, "peeks": 2, "alike": 2},
+    "askers": {"Asker": 2, "coming": 2, "asker_habit": 1, "opened": 2},
+    "making": {"program_of": 1, "asker_of": 1},
+    "lists": {"nests": 2, "order": 2, "many_orders": 2, "ring": 2, "is_ring": 3, "given_up": 2},
+    "bets": {"is_bet": 2, "pays": 2, "ring_habit": 2, "ring_bet": 2},
+    "papers": {"asker_for": 1, "bet_for": 1, "best_bet": 1, "greatest_share": 1, "twin": 1},
 }
+# For each class of it the methods that stand in it itself.
+METHODS = {"Habit": ["__init__", "__eq__"], "Program": ["__init__", "__eq__"], "Asker": ["__init__", "__eq__"]}
+# The methods of builtin values that may be called.
+BUILTIN_METHODS = """append clear copy count endswith extend find get index insert isalnum isalpha isdigit islower isspace
+    isupper items join keys ljust lower lstrip partition pop remove replace reverse rfind rjust rpartition rsplit rstrip
+    setdefault split splitlines startswith strip update upper values zfill bit_length""".split()
+ITERATED = ["list", "tuple", "dict", "sorted", "sum", "any", "all", "enumerate", "zip", "min", "max", "len", "reversed"]
+BARRED_NAMES = ["register", "mro", "elements", "open", "input", "law", "version_info", "with_traceback", "add_note"]
+BARRED_WORDS = ["type", "typing", "enum", "Enum", "Flag", "Generic", "Protocol", "ABC", "namedtuple", "dataclass",
+                "overload", "contextmanager"]
 LIBRARY = {
     "heapq": ["heappush", "heappop", "heapify", "heapreplace", "heappushpop"],
     "math": ["gcd", "lcm", "isqrt", "comb", "perm", "factorial"],
@@ -75,6 +94,13 @@ class Interface(unittest.TestCase):
                 code = made.__init__.__code__ if isinstance(made, type) else made.__code__
                 self.assertEqual(code.co_argcount - isinstance(made, type), many, name)
                 self.assertEqual(code.co_kwonlyargcount, 0, name)
+
+
+    def test_methods_stand_in_the_classes_themselves(self):
+        found = {node.name: node for _, node in nodes(ast.ClassDef)}
+        for name, methods in METHODS.items():
+            own = [node.name for node in found[name].body if isinstance(node, ast.FunctionDef)]
+            self.assertEqual(sorted(set(methods) - set(own)), [], name)
 
 
 class Files(unittest.TestCase):
@@ -169,6 +195,81 @@ class Code(unittest.TestCase):
         for name, node in nodes(ast.Constant):
             if isinstance(node.value, str):
                 self.assertNotIn("%", node.value, (name, node.lineno))
+
+    def test_names_that_are_barred(self):
+        for name, tree in trees():
+            words = set(re.findall(r"[A-Za-z_]+", re.sub(r'""".*?"""|#.*', "", read(name), flags=re.DOTALL)))
+            self.assertEqual(words & set(BARRED_WORDS), set(), name)
+            for node in ast.walk(tree):
+                for field in ("id", "attr", "arg", "name"):
+                    self.assertNotIn(getattr(node, field, None), BARRED_NAMES, (name, getattr(node, "lineno", 0)))
+
+    def test_names_begin_with_a_letter(self):
+        for name, node in nodes((ast.Name, ast.arg, ast.FunctionDef, ast.ClassDef)):
+            word = getattr(node, "id", getattr(node, "arg", getattr(node, "name", None)))
+            self.assertRegex(word, r"^(_|[A-Za-z][A-Za-z0-9_]*|__init__|__eq__)$", (name, node.lineno))
+            if word == "_" and isinstance(node, ast.Name):
+                self.assertIsInstance(node.ctx, ast.Store, (name, node.lineno))
+
+    def test_statements_that_are_not_used(self):
+        # All of these are let somewhere, by rules that these tests do not know.
+        for kind in (ast.Yield, ast.YieldFrom, ast.GeneratorExp, ast.Lambda, ast.Try, ast.With, ast.Match, ast.NamedExpr,
+                     ast.Starred, ast.JoinedStr, ast.Delete, ast.Nonlocal, ast.Assert, ast.AnnAssign, ast.Pow):
+            self.assertEqual(nodes(kind), [])
+        for name, node in nodes(ast.FunctionDef):
+            self.assertEqual(node.decorator_list, [], (name, node.name))
+            self.assertFalse(node.args.vararg or node.args.kwarg or node.args.kwonlyargs, (name, node.name))
+
+    def test_only_named_methods_are_called(self):
+        own = {node.name for _, node in nodes(ast.FunctionDef)}
+        for name, node in nodes(ast.Call):
+            if isinstance(node.func, ast.Attribute):
+                # What is added is added to a set of the function itself.
+                self.assertIn(node.func.attr, own | set(BUILTIN_METHODS) | {"add"}, (name, node.lineno))
+
+    def test_attributes_that_are_read_are_assigned(self):
+        assigned = {node.attr for _, node in nodes(ast.Attribute) if isinstance(node.ctx, ast.Store)}
+        methods = {node.name for _, kind in nodes(ast.ClassDef) for node in kind.body if isinstance(node, ast.FunctionDef)}
+        self.assertEqual(assigned & methods, set())
+        for name, tree in trees():
+            called = {node.func for node in ast.walk(tree) if isinstance(node, ast.Call)}
+            for node in ast.walk(tree):
+                if isinstance(node, ast.Attribute) and node not in called:
+                    self.assertIn(node.attr, assigned, (name, node.lineno))
+
+    def test_ranges_and_views_are_iterated_at_once(self):
+        for name, tree in trees():
+            right = set()
+            for node in ast.walk(tree):
+                if isinstance(node, (ast.For, ast.comprehension)):
+                    right.add(node.iter)
+                elif isinstance(node, ast.Call) and isinstance(node.func, ast.Name) and node.func.id in ITERATED:
+                    right.update(node.args[:2] if node.func.id in ("zip",) else node.args[:1])
+            for node in ast.walk(tree):
+                if isinstance(node, ast.Call):
+                    word = getattr(node.func, "id", getattr(node.func, "attr", None))
+                    if word in ("range", "zip", "enumerate", "reversed", "items", "keys", "values"):
+                        self.assertIn(node, right, (name, node.lineno))
+                    if word in ("combinations", "permutations", "product"):
+                        self.assertIn(node, right, (name, node.lineno))
+                        self.assertIsInstance(node.args[0], ast.Name, (name, node.lineno))
+
+    def test_sets_are_only_asked(self):
+        for name, tree in trees():
+            right = {argument for node in ast.walk(tree) if isinstance(node, ast.Call)
+                     and isinstance(node.func, ast.Name) and node.func.id in ("sorted", "len") for argument in node.args}
+            stored = {node.value for node in ast.walk(tree) if isinstance(node, ast.Assign)}
+            for node in ast.walk(tree):
+                made = isinstance(node, ast.Call) and isinstance(node.func, ast.Name) and node.func.id == "set"
+                if made or isinstance(node, (ast.Set, ast.SetComp)):
+                    self.assertIn(node, right | stored, (name, node.lineno))
+
+    def test_keywords_of_builtins(self):
+        for name, node in nodes(ast.Call):
+            if isinstance(node.func, ast.Name) and node.func.id in BUILTINS:
+                for keyword in node.keywords:
+                    self.assertIn((node.func.id, keyword.arg), [("sorted", "key"), ("sorted", "reverse"), ("min", "key"),
+                                                                ("max", "key")], (name, node.lineno))
 
 
 if __name__ == "__main__":

@@ -6,36 +6,10 @@ from itertools import combinations, product
 from fairmasks.errors import BadHabit, BadSizes, NoContent, NoPattern, NoShares, NotFair, TooMuch
 from fairmasks.habits import Habit, box_shares, habit_of, is_fair, patterns, share, unfair
 from fairmasks.rows import box_at, contents, in_box
+from makers import all_patterns, pair, random_habit, whole
 from samples import deep_dict, deep_list, deep_tuple, small_habit, strangers
 
 SIZES = [(2,), (4,), (2, 2), (3, 2), (2, 2, 2), (4, 2, 2), (2, 2, 2, 2, 2)]
-
-
-def pair(value):
-    return (value.numerator, value.denominator)
-
-
-def whole(sizes):
-    """The habit that shows all columns of each content."""
-    return Habit(sizes, tuple(((tuple(range(len(sizes))), (1, 1)),) for _ in contents(sizes)))
-
-
-def all_patterns(columns):
-    return sorted(p for many in range(columns + 1) for p in combinations(range(columns), many))
-
-
-def random_row(columns, chance):
-    shown = sorted(chance.sample(all_patterns(columns), chance.randint(1, min(4, 2 ** columns))))
-    weights = [chance.randint(1, 3) for _ in shown]
-    return tuple((pattern, pair(Fraction(weight, sum(weights)))) for pattern, weight in zip(shown, weights))
-
-
-def random_habit(sizes, chance):
-    """A habit of few unlike rows, so that it is fair now and then."""
-    rows = [random_row(len(sizes), chance) for _ in range(2)]
-    odd = chance.choice([0, 0, 1, 1, 2, len(contents(sizes))])
-    places = chance.sample(range(len(contents(sizes))), min(odd, len(contents(sizes))))
-    return Habit(sizes, tuple(rows[k in places] for k in range(len(contents(sizes)))))
 
 
 def random_shares(sizes, chance):

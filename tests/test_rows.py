@@ -1,8 +1,9 @@
 import unittest
-from itertools import combinations, product
+from itertools import product
 
 from fairmasks.errors import BadSizes, NoBox, NoContent, NoNumber, NoPattern
 from fairmasks.rows import both, box_at, contents, in_box, is_box, is_list
+from makers import all_boxes, all_patterns
 from samples import deep_list, deep_tuple, small_habit, strangers
 
 RIGHT_SIZES = [
@@ -15,14 +16,6 @@ WRONG_SIZES = [
     (10 ** 59, 2), range(2, 4), b"\x02\x02", (2,) * 1000,
 ]
 SMALL_SIZES = [(2,), (4,), (2, 2), (3, 2), (2, 3, 2), (2, 2, 2, 2)]
-
-
-def all_patterns(columns):
-    return sorted(p for many in range(columns + 1) for p in combinations(range(columns), many))
-
-
-def all_boxes(sizes):
-    return [(p, worths) for p in all_patterns(len(sizes)) for worths in product(*[range(sizes[c]) for c in p])]
 
 
 def held(sizes, box):
