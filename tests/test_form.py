@@ -21,9 +21,18 @@ INTERFACE = {
     "lists": {"nests": 2, "order": 2, "many_orders": 2, "ring": 2, "is_ring": 3, "given_up": 2},
     "bets": {"is_bet": 2, "pays": 2, "ring_habit": 2, "ring_bet": 2},
     "papers": {"asker_for": 1, "bet_for": 1, "best_bet": 1, "greatest_share": 1, "twin": 1},
+    "trust": {"is_enough": 3, "trusts": 2, "behind": 2},
+    "cuttings": {"is_fair_showing": 2, "shown_by": 3, "tree_of": 2, "stuck": 2, "unlike_pair": 2, "pair_showing": 2,
+                 "showing_of": 2, "cuttings": 1},
+    "questions": {"is_telling": 3, "weights_for": 2, "two_chances": 2, "mean": 3, "spread": 3, "spread_of_rows": 3},
+    "book": {"Book": 1},
 }
 # For each class of it the methods that stand in it itself.
-METHODS = {"Habit": ["__init__", "__eq__"], "Program": ["__init__", "__eq__"], "Asker": ["__init__", "__eq__"]}
+METHODS = {
+    "Habit": ["__init__", "__eq__"], "Program": ["__init__", "__eq__"], "Asker": ["__init__", "__eq__"],
+    "Book": ["__init__", "put", "take", "exchange", "ask", "drop", "answer", "names", "boxes", "counts", "back", "deeds",
+             "copy"],
+}
 # The methods of builtin values that may be called.
 BUILTIN_METHODS = """append clear copy count endswith extend find get index insert isalnum isalpha isdigit islower isspace
     isupper items join keys ljust lower lstrip partition pop remove replace reverse rfind rjust rpartition rsplit rstrip
@@ -170,6 +179,12 @@ class Code(unittest.TestCase):
         for name, node in nodes(ast.Div):
             self.fail(name)
 
+    def test_exponents_are_literals(self):
+        for name, node in nodes(ast.BinOp):
+            if isinstance(node.op, ast.Pow):
+                self.assertIsInstance(node.right, ast.Constant, (name, node.lineno))
+                self.assertIn(node.right.value, range(65), (name, node.lineno))
+
     def test_no_statements_outside_of_the_language(self):
         for kind in (ast.Global, ast.AsyncFunctionDef, ast.Await, ast.TryStar):
             self.assertEqual(nodes(kind), [])
@@ -214,7 +229,7 @@ class Code(unittest.TestCase):
     def test_statements_that_are_not_used(self):
         # All of these are let somewhere, by rules that these tests do not know.
         for kind in (ast.Yield, ast.YieldFrom, ast.GeneratorExp, ast.Lambda, ast.Try, ast.With, ast.Match, ast.NamedExpr,
-                     ast.Starred, ast.JoinedStr, ast.Delete, ast.Nonlocal, ast.Assert, ast.AnnAssign, ast.Pow):
+                     ast.Starred, ast.JoinedStr, ast.Delete, ast.Nonlocal, ast.Assert, ast.AnnAssign):
             self.assertEqual(nodes(kind), [])
         for name, node in nodes(ast.FunctionDef):
             self.assertEqual(node.decorator_list, [], (name, node.name))
