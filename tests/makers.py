@@ -6,6 +6,7 @@ from itertools import combinations, product
 from fairmasks.askers import Asker
 from fairmasks.errors import BadProgram
 from fairmasks.habits import Habit, habit_of
+from fairmasks.making import program_of
 from fairmasks.programs import Program
 from fairmasks.running import run
 
@@ -166,6 +167,24 @@ def random_program(sizes, chance):
             pass
 
 
+def without_shows(block, sizes):
+    """A block that shows just what is open, or all, so that it is blind."""
+    found = []
+    for statement in block:
+        if statement[0] != "show":
+            found.append(tuple(without_shows(part, sizes) if k > 1 and isinstance(part, tuple) else part
+                               for k, part in enumerate(statement)))
+        elif len(statement[1]) == len(sizes):
+            found.append(statement)
+    return tuple(found)
+
+
+def blind_program(sizes, chance):
+    if chance.random() < 0.5:
+        return program_of(random_asker(sizes, chance, 2, chance.choice([2, 3])))
+    return Program(sizes, without_shows(random_program(sizes, chance).block, sizes))
+
+
 class Lacking(Exception):
     """A throw is asked for that is not there."""
 
@@ -257,3 +276,93 @@ def same_as_run(program, content, machine):
 def is_blind_by_runs(program):
     return all(tuple(sorted(machine.order)) == machine.shown
                for content in all_contents(program.sizes) for machine, _ in all_runs(program, content))
+
+
+class Scribe(Machine):
+    """A machine that writes the lines of its deeds; asks is of how much the throw is that it lacks, or None."""
+
+    def __init__(self, program, content, throws):
+        self.lines = []
+        self.asks = None
+        try:
+            Machine.__init__(self, program, content, throws)
+            self.lines.append(("show", self.shown))
+        except Lacking as lacking:
+            self.asks = lacking.args[0]
+
+    def cell(self, column):
+        if column not in self.order:
+            self.lines.append(("open", column, self.content[column]))
+        return Machine.cell(self, column)
+
+    def do_throw(self, name, most):
+        Machine.do_throw(self, name, most)
+        self.lines.append(("throw", self.names[name]))
+
+
+class KeeperByWords:
+    """A keeper by the words of the document: from its lines it finds out anew each time what is due."""
+
+    def __init__(self, program, policy):
+        self.program = program
+        self.throws, self.ahead = policy
+        self.rows = []
+        self.ever = []
+        self.sure = []
+        self.loose = []
+
+    def copy(self):
+        other = KeeperByWords(self.program, (self.throws, self.ahead))
+        other.rows = list(self.rows)
+        other.ever = [set(columns) for columns in self.ever]
+        other.sure, other.loose = list(self.sure), list(self.loose)
+        return other
+
+    def put(self, content):
+        self.rows.append(content)
+        self.ever.append(set())
+
+    def patterns(self):
+        return [line[1] for line in self.sure + self.loose if line[0] == "show"]
+
+    def of_row(self):
+        """The lines of the row that is not shown."""
+        lines = self.sure + self.loose
+        shows = [at for at, line in enumerate(lines) if line[0] == "show"]
+        return lines[shows[-1] + 1:] if shows else lines
+
+    def due(self):
+        at = len(self.patterns())
+        if at == len(self.rows):
+            return None
+        lines = [line for line in self.of_row() if line[0] != "row"]
+        scribe = Scribe(self.program, self.rows[at], [line[1] for line in lines if line[0] == "throw"])
+        assert scribe.lines[:len(lines)] == lines
+        if len(scribe.lines) == len(lines):
+            return ("throw", scribe.asks)
+        return scribe.lines[len(lines)][:2]
+
+    def do(self, deed, value=None):
+        at = len(self.patterns())
+        if deed[0] == "open" and self.ahead:
+            self.sure, self.loose = self.sure + self.loose, []
+        if not self.of_row():
+            self.loose.append(("row", at))
+        if deed[0] == "throw":
+            self.loose.append(("throw", value))
+        elif deed[0] == "open":
+            self.ever[at].add(deed[1])
+            self.loose.append(("open", deed[1], self.rows[at][deed[1]]))
+        else:
+            self.loose.append(deed)
+        if deed[0] == "show" or (deed[0] == "throw" and self.throws):
+            self.sure, self.loose = self.sure + self.loose, []
+
+    def fall(self):
+        self.loose = []
+
+    def peeked(self):
+        return sum(len(self.ever[at] - set(pattern)) for at, pattern in enumerate(self.patterns()))
+
+
+POLICIES = [(False, False), (False, True), (True, False), (True, True)]

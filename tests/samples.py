@@ -1,7 +1,11 @@
 """Objects of every kind that may stand where something else is asked for."""
 
+from fairmasks.askers import Asker
+from fairmasks.book import Book
 from fairmasks.errors import BadHabit, BadSizes, MaskError
 from fairmasks.habits import Habit
+from fairmasks.keeper import Keeper
+from fairmasks.programs import Program
 
 
 def deep_list(depth):
@@ -36,6 +40,12 @@ def small_habit():
     return Habit((2,), ((((0,), (1, 1)),), (((0,), (1, 1)),)))
 
 
+def small_objects():
+    program = Program((2,), ())
+    return [small_habit(), program, Asker((2,), {((), ()): ((-1, (1, 1)),)}), Book(small_habit()),
+            Keeper(program, (False, False))]
+
+
 def strangers():
     """None of these is sizes, a pattern, a content, a box, a list, a share or shares."""
     return [
@@ -52,4 +62,5 @@ def strangers():
         ((0,), None), (None, (0,)), (small_habit(), small_habit()), (small_habit(),), (Habit, len),
         deep_list(40), deep_dict(40), deep_pair(10), (deep_list(39),), (deep_list(39), deep_dict(39)),
         deep_tuple(40), (deep_tuple(39), deep_tuple(39)), ((deep_tuple(38),), (0,)), ((0,), (deep_list(38),)),
+        *[thing for made in small_objects() for thing in (made, (made,), [made], (made, made), {0: made}, ((0,), made))],
     ]

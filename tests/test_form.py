@@ -26,12 +26,17 @@ INTERFACE = {
                  "showing_of": 2, "cuttings": 1},
     "questions": {"is_telling": 3, "weights_for": 2, "two_chances": 2, "mean": 3, "spread": 3, "spread_of_rows": 3},
     "book": {"Book": 1},
+    "keeper": {"Keeper": 2, "risen": 4},
+    "falls": {"breach": 2, "is_breach": 3, "sway": 5},
+    "texts": {"program_text": 1, "shares_text": 1, "log_text": 1},
+    "reading": {"read_program": 1, "read_shares": 1, "read_log": 1},
 }
 # For each class of it the methods that stand in it itself.
 METHODS = {
     "Habit": ["__init__", "__eq__"], "Program": ["__init__", "__eq__"], "Asker": ["__init__", "__eq__"],
     "Book": ["__init__", "put", "take", "exchange", "ask", "drop", "answer", "names", "boxes", "counts", "back", "deeds",
              "copy"],
+    "Keeper": ["__init__", "put", "due", "throw", "go", "fall", "log", "shown", "looked", "peeked", "copy"],
 }
 # The methods of builtin values that may be called.
 BUILTIN_METHODS = """append clear copy count endswith extend find get index insert isalnum isalpha isdigit islower isspace
@@ -206,6 +211,14 @@ class Code(unittest.TestCase):
         for name, node in nodes(ast.Raise):
             self.assertTrue(node.exc is None or isinstance(node.exc, ast.Call), (name, node.lineno))
 
+    def test_only_own_errors_are_caught_and_by_name(self):
+        own = bound_at_top(ast.parse(read("errors.py")))
+        for name, node in nodes(ast.Try):
+            self.assertEqual(node.finalbody, [], (name, node.lineno))
+            for handler in node.handlers:
+                self.assertIsInstance(handler.type, ast.Name, (name, node.lineno))
+                self.assertIn(handler.type.id, own, (name, node.lineno))
+
     def test_words_that_are_barred_from_strings(self):
         for name, node in nodes(ast.Constant):
             if isinstance(node.value, str):
@@ -228,7 +241,7 @@ class Code(unittest.TestCase):
 
     def test_statements_that_are_not_used(self):
         # All of these are let somewhere, by rules that these tests do not know.
-        for kind in (ast.Yield, ast.YieldFrom, ast.GeneratorExp, ast.Lambda, ast.Try, ast.With, ast.Match, ast.NamedExpr,
+        for kind in (ast.Yield, ast.YieldFrom, ast.GeneratorExp, ast.Lambda, ast.With, ast.Match, ast.NamedExpr,
                      ast.Starred, ast.JoinedStr, ast.Delete, ast.Nonlocal, ast.Assert, ast.AnnAssign):
             self.assertEqual(nodes(kind), [])
         for name, node in nodes(ast.FunctionDef):

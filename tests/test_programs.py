@@ -202,8 +202,8 @@ class Equality(unittest.TestCase):
         self.assertIs(Program((2,), (OPEN,)) == Program((2,), (OPEN, OPEN)), False)
 
     def test_equal_to_nothing_else(self):
-        program = Program((2,), ())
-        for thing in strangers() + [((2,), ()), (2,), ()]:
+        program = Program((4,), ())
+        for thing in strangers() + [((4,), ()), (4,), ()]:
             self.assertIs(program == thing, False)
             self.assertIs(thing == program, False)
             self.assertIs(program != thing, True)
