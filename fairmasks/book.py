@@ -1,9 +1,9 @@
 """Books: what was shown, row by row, with answers to the questions that are asked."""
 
 from fairmasks.amounts import ZERO, is_whole, total
-from fairmasks.errors import NeverShown, NoBox, NoName, NoNumber, NoQuestion, NothingDone, NotTold
+from fairmasks.errors import NeverShown, NoBox, NoName, NoNumber, NothingDone, NotTold
 from fairmasks.programs import is_name
-from fairmasks.questions import is_question, shown_boxes, weights_for
+from fairmasks.questions import shown_boxes, weights_for
 from fairmasks.rows import is_box_of
 
 
@@ -40,8 +40,6 @@ class Book:
         """From now on answer this under this name."""
         if not is_name(name):
             raise NoName()
-        if not is_question(self.habit.sizes, question):
-            raise NoQuestion()
         weights = weights_for(self.habit, question)
         if weights is None:
             raise NotTold()

@@ -54,12 +54,13 @@ def is_breach(program, policy, thing):
     if not is_pair(thing) or not is_content(program.sizes, thing[0]) or not isinstance(thing[1], (list, tuple)):
         return False
     keeper = Keeper(program, policy)
-    number = keeper.put(thing[0])
+    keeper.put(thing[0])
     for move in thing[1]:
         if not is_due(keeper, move):
             return False
         do_move(keeper, move)
-    return keeper.shown(number) is not None and keeper.peeked() > 0
+    # What was opened of a row counts here only when it is shown.
+    return keeper.peeked() > 0
 
 
 def is_due(keeper, move):
@@ -101,20 +102,22 @@ def sway(program, policy, content, pattern, falls):
     bases = bases_of(branches, policy)
     shares = shares_from(branches, pattern, [])
     for _ in range(falls):
-        # With one fall more, each place is as good as where a fall leads to with the falls so far.
+        # A fall leads to where all lines are sure, from where one more falls back no further.
         shares = shares_from(branches, pattern, [shares[base] for base in bases])
     return shares[0]
 
 
-def shares_from(branches, pattern, least):
-    """For each place the list of the greatest shares with which a pattern is shown, none being below its least one."""
+def shares_from(branches, pattern, fallen):
+    """For each place the list of the greatest shares with which a pattern is shown if the next deed is done there.
+
+    fallen has for each place the share that is had by falling there instead, or nothing at all if there are no falls.
+    """
     found = [ZERO for _ in branches.dues]
     for place in reversed(range(len(branches.dues))):
         deed = branches.dues[place]
-        come = [found[below] for below in branches.downs[place]]
         if deed[0] == "show":
-            part = ONE if deed[1] == pattern else ZERO
-        else:
-            part = times(total(come), (1, len(come)))
-        found[place] = greater(part, least[place]) if least else part
+            found[place] = ONE if deed[1] == pattern else ZERO
+            continue
+        come = [greater(found[below], fallen[below]) if fallen else found[below] for below in branches.downs[place]]
+        found[place] = times(total(come), (1, len(come)))
     return found

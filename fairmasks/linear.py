@@ -63,7 +63,7 @@ class Elimination:
         if not rows:
             return None
         many, at = min(rows)
-        few, unknown = min([(len(held), unknown) for unknown, held in self.columns.items() if held])
+        few, unknown = min([(len(held), other) for other, held in self.columns.items() if held])
         scarce = min([(len(self.columns[other]), other) for other in self.left[at]])
         short = min([(len(self.left[other]), other) for other in self.columns[unknown]])
         if (few - 1) * (short[0] - 1) < (many - 1) * (scarce[0] - 1):
@@ -87,11 +87,14 @@ class Elimination:
 
     def digits(self, rights):
         """The dict from the unknowns of the pivots to their worths modulo the number, for a dict of other rights."""
-        left = {at: right % self.modulus for at, right in rights.items()}
+        left = {at: number % self.modulus for at, number in rights.items()}
         for at, _, _, _, taken in self.pivots:
-            for other, factor in taken if left[at] != 0 else []:
+            right = left[at]
+            if right == 0:
+                continue
+            for other, factor in taken:
                 if other in left:
-                    left[other] = (left[other] - factor * left[at]) % self.modulus
+                    left[other] = (left[other] - factor * right) % self.modulus
         found = {}
         for at, unknown, inverse, cells, _ in reversed(self.pivots):
             known = sum([cell * found[other] for other, cell in cells.items() if other in found])

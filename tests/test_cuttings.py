@@ -257,6 +257,14 @@ class TreeOf(unittest.TestCase):
         self.assertEqual(stuck((2, 2, 2, 2), showing), ((0, 1), (0, 0)))
         self.assertFalse(self.assert_tree_of((2, 2, 2, 2), showing))
 
+    def test_of_as_many_columns_the_least_box_is_named(self):
+        # Behind 0 of column 0 it is stuck with column 2, behind 1 with column 1, of which the pattern is less.
+        showing = {(0, 0, 0, 0): (0, 1, 2), (0, 1, 0, 1): (0, 2, 3), (1, 0, 0, 0): (0, 1, 2), (1, 0, 1, 1): (0, 1, 3)}
+        self.assertEqual(stuck((2, 2, 2, 2), showing), ((0, 1), (1, 0)))
+        self.assertFalse(self.assert_tree_of((2, 2, 2, 2), showing))
+        showing.pop((1, 0, 1, 1))
+        self.assertEqual(stuck((2, 2, 2, 2), showing), ((0, 2), (0, 0)))
+
     def test_what_is_not_fair_has_no_tree(self):
         self.assertEqual(stuck((2, 2), {(0, 0): (), (0, 1): (0,)}), ((), ()))
         self.assertEqual(stuck((2, 2), {(0, 0): (0,), (0, 1): (0, 1)}), ((0,), (0,)))

@@ -257,7 +257,7 @@ class IsBreach(unittest.TestCase):
         for thing in strangers() + [
                 ("go", 0), ["go"], ("Go",), (b"go",), "go", ("fall", 0), ["fall"], ("throw",), ["throw", 0], ("throw", True),
                 ("throw", False), ("throw", None), ("throw", (0,)), ("throw", -1), ("throw", 0, 0), ("throw", "0"), None,
-                ("throw", 10 ** 59), ("open", 0), ("show", (0,)), ("row", 0), (GO,), ("throw", deep_list(38)), (None,)]:
+                ("throw", 10 ** 59), ("open", 0), ("show", (0,)), ("row", 0), (GO,), ("throw", deep_list(38)), (None,), ()]:
             for at in range(len(moves) + 1):
                 for kind in (list, tuple):
                     self.assertIs(is_breach(CHOOSE, LOOSE, (content, kind(moves[:at] + (thing,) + moves[at:]))), False)
@@ -361,6 +361,24 @@ class Sway(unittest.TestCase):
                          [(1, 2), (3, 4), (7, 8)])
         for policy in POLICIES:
             for falls in range(4):
+                for pattern in [(), (0,), (0, 1), (1,)]:
+                    self.assertEqual(sway(program, policy, (0, 0), pattern, falls),
+                                     sway_by_words(program, policy, (0, 0), pattern, falls))
+
+    def test_what_is_sure_is_not_lost_by_a_second_fall(self):
+        # With (False, True) the throw ahead of an opening is sure once the column is open, and stays so: two falls one
+        # behind another lead no further back than one does.
+        inner = (("open", 0), ("throw", "a", 2), ("if", ("name", "a", 1), (("throw", "a", 2),), ()))
+        other = (("throw", "a", 2), ("if", ("name", "a", 0), inner, (("show", (0, 1)),)), ("throw", "b", 4),
+                 ("if", ("name", "b", 3), (("show", (0,)),), ()))
+        block = (("throw", "a", 3), ("open", 1), ("if", ("name", "a", 2), (), other),
+                 ("if", ("name", "a", 0), (), (("show", (0,)),)))
+        program = Program((2, 2), block)
+        self.assertEqual([sway(program, (False, True), (0, 0), (0,), falls) for falls in range(7)],
+                         [(23, 48), (47, 72), (83, 108), (137, 162), (2843663, 3145728), (47383687, 50331648),
+                          (776939711, 805306368)])
+        for policy in POLICIES:
+            for falls in range(7):
                 for pattern in [(), (0,), (0, 1), (1,)]:
                     self.assertEqual(sway(program, policy, (0, 0), pattern, falls),
                                      sway_by_words(program, policy, (0, 0), pattern, falls))

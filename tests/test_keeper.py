@@ -492,7 +492,8 @@ NO_LINES = [
     ("open", 0), ("open", False, 1), ("open", 0, True), ("open", 1, False), ("open", True, 2), ("open", 5, 0),
     ("open", 0, 4), ("open", 0, -1), ("open", -1, 0), ("open", 0, None), ["open", 0, 1], ("show",), ("show", 0),
     ("show", [0]), ("show", (1, 0)), ("show", (0, 0)), ("show", (5,)), ("show", (True,)), ("show", (False,)), ("show", None),
-    ("show", ((0,),)), ("show", (0,), ()), ["show", (0,)], ("fall",), ("go",), (b"row", 0), ("Row", 0), (0, "row"),
+    ("show", ((0,),)), ("show", (0,), ()), ["show", (0,)], ("fall",), ("go",), ("fall", (0,)), ("go", ()),
+    ("look", 0, 1), ("look", 0), (b"row", 0), ("Row", 0), (0, "row"),
     ("row", [0]), ("show", {}), ("show", deep_tuple(38)), ("row", deep_list(38)), ("open", deep_tuple(38), 0),
 ]
 

@@ -143,6 +143,18 @@ class Eighth(unittest.TestCase):
         habit = Habit((2,), ((((), HALF), ((0,), HALF)), (((), (1, 1)),)))
         self.assertTrue(self.assert_either(habit, integers(3, 8)))
 
+    def test_chances_that_can_hardly_be_moved(self):
+        # They can be moved in one way alone: one content gets less by three times what each other one gets more.
+        habit = Habit((2, 2), ((((), (2, 3)), ((0,), (1, 6)), ((1,), (1, 6))), (((), HALF), ((0,), HALF)),
+                               (((), HALF), ((1,), HALF)), (((), (1, 1)),)))
+        for question in [integers(1, 0, 0, 0), integers(-1, 0, 0, 0), integers(0, 0, 0, 1), integers(0, 0, 0, -1),
+                         integers(0, 1, 0, 0), integers(7, -2, 5, 5)]:
+            self.assertFalse(self.assert_either(habit, question))
+            one, other = two_chances(habit, question)
+            moves = [Fraction(*new) - Fraction(*old) for old, new in zip(one, other)]
+            self.assertEqual(moves, [-3 * moves[3], moves[3], moves[3], moves[3]])
+        self.assertTrue(self.assert_either(habit, integers(1, 1, 1, 1)))
+
     def test_by_chance(self):
         chance = random.Random(2)
         seen = {True: 0, False: 0}
